@@ -6,6 +6,7 @@ import (
 	"reserve/check"
 	"reserve/code"
 	"reserve/field"
+	"reserve/message"
 )
 
 // Mul multiplies in the field (P3).
@@ -37,10 +38,14 @@ func Decode(numbers []int, symbols string, size int) (string, api.Errno) {
 }
 
 // Write writes a message (P6).
-func Write(m api.Message) (string, api.Errno) { return "", api.OK }
+func Write(m api.Message) (string, api.Errno) {
+	return message.Write(m)
+}
 
 // Read reads a message (P6).
-func Read(text string) (api.Message, api.Errno) { return api.Message{}, api.OK }
+func Read(text string) (api.Message, api.Errno) {
+	return message.Read(text)
+}
 
 // Sender sends objects.
 type Sender struct{}
