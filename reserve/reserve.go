@@ -7,6 +7,7 @@ import (
 	"reserve/code"
 	"reserve/field"
 	"reserve/message"
+	"reserve/sender"
 )
 
 // Mul multiplies in the field (P3).
@@ -48,19 +49,33 @@ func Read(text string) (api.Message, api.Errno) {
 }
 
 // Sender sends objects.
-type Sender struct{}
+type Sender struct {
+	own sender.Sender
+}
 
 // NewSender makes a sender (P7).
-func NewSender(size int, block int, spare int) (*Sender, api.Errno) { return nil, api.OK }
+func NewSender(size int, block int, spare int) (*Sender, api.Errno) {
+	made, e := sender.New(size, block, spare)
+	if e != api.OK {
+		return nil, e
+	}
+	return &Sender{own: made}, api.OK
+}
 
 // Enqueue takes an object to be sent (P8).
-func (s *Sender) Enqueue(object string) (int, api.Errno) { return 0, api.OK }
+func (s *Sender) Enqueue(object string) (int, api.Errno) {
+	return s.own.Enqueue(object)
+}
 
 // Next tells the next message (P9).
-func (s *Sender) Next() string { return "" }
+func (s *Sender) Next() string {
+	return s.own.Next()
+}
 
 // Hear takes a request (P10).
-func (s *Sender) Hear(text string) api.Errno { return api.OK }
+func (s *Sender) Hear(text string) api.Errno {
+	return s.own.Hear(text)
+}
 
 // Receiver receives objects.
 type Receiver struct{}
