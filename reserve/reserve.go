@@ -7,6 +7,7 @@ import (
 	"reserve/code"
 	"reserve/field"
 	"reserve/message"
+	"reserve/receiver"
 	"reserve/sender"
 )
 
@@ -78,19 +79,35 @@ func (s *Sender) Hear(text string) api.Errno {
 }
 
 // Receiver receives objects.
-type Receiver struct{}
+type Receiver struct {
+	own receiver.Receiver
+}
 
 // NewReceiver makes a receiver (P11).
-func NewReceiver(size int, block int, spare int) (*Receiver, api.Errno) { return nil, api.OK }
+func NewReceiver(size int, block int, spare int) (*Receiver, api.Errno) {
+	made, e := receiver.New(size, block, spare)
+	if e != api.OK {
+		return nil, e
+	}
+	return &Receiver{own: made}, api.OK
+}
 
 // Hear takes a message of the sender (P12).
-func (r *Receiver) Hear(text string) api.Errno { return api.OK }
+func (r *Receiver) Hear(text string) api.Errno {
+	return r.own.Hear(text)
+}
 
 // Known tells of how many objects it knows (P14).
-func (r *Receiver) Known() int { return 0 }
+func (r *Receiver) Known() int {
+	return r.own.Known()
+}
 
 // Request asks for what is lacking (P14).
-func (r *Receiver) Request() string { return "" }
+func (r *Receiver) Request() string {
+	return r.own.Request()
+}
 
 // Take hands the next object over (P13).
-func (r *Receiver) Take() (string, bool) { return "", false }
+func (r *Receiver) Take() (string, bool) {
+	return r.own.Take()
+}

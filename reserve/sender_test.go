@@ -145,14 +145,21 @@ func wantNumbers(t *testing.T, s *reserve.Sender, object int, block int, numbers
 	}
 }
 
-func wantHear(t *testing.T, s *reserve.Sender, text string, want api.Errno) {
+// hearer is a sender or a receiver.
+type hearer interface {
+	Hear(text string) api.Errno
+}
+
+func wantHear(t *testing.T, h hearer, text string, want api.Errno) {
 	t.Helper()
-	if e := s.Hear(text); e != want {
+	if e := h.Hear(text); e != want {
 		t.Errorf("Hear(%.60q) = %d, want %d", text, e, want)
 	}
 }
 
-func TestP7EveryLimit(t *testing.T) {
+// triedLayouts calls try with all sizes, blocks and spares about their limits and far beyond, and with what NewSender
+// and NewReceiver answer to them.
+func triedLayouts(try func(size int, block int, spare int, want api.Errno)) {
 	tried := slices.Concat(beyond, between(-20, 40))
 	for _, size := range tried {
 		for _, block := range tried {
@@ -166,13 +173,19 @@ func TestP7EveryLimit(t *testing.T) {
 				case spare < 0 || spare > 8:
 					want = api.ErrSpare
 				}
-				s, e := reserve.NewSender(size, block, spare)
-				if e != want || (s != nil) != (want == api.OK) {
-					t.Fatalf("NewSender(%d, %d, %d) = %v, %d, want %d", size, block, spare, s, e, want)
-				}
+				try(size, block, spare, want)
 			}
 		}
 	}
+}
+
+func TestP7EveryLimit(t *testing.T) {
+	triedLayouts(func(size int, block int, spare int, want api.Errno) {
+		s, e := reserve.NewSender(size, block, spare)
+		if e != want || (s != nil) != (want == api.OK) {
+			t.Fatalf("NewSender(%d, %d, %d) = %v, %d, want %d", size, block, spare, s, e, want)
+		}
+	})
 }
 
 func TestP7NoObjectsAtFirst(t *testing.T) {
@@ -597,15 +610,21 @@ func noRequests() []string {
 	}
 	texts = append(texts, asking(make([]api.Item, api.MaxItems+1)...), asking())
 	for _, text := range []string{asking(api.Item{}), asking(api.Item{Count: 2}, api.Item{Block: 1, Count: 1})} {
-		for n := range len(text) {
-			texts = append(texts, text[:n], text[n+1:])
-			for bit := range 8 {
-				spoilt := []byte(text)
-				spoilt[n] ^= 1 << bit
-				texts = append(texts, string(spoilt))
-			}
+		texts = append(texts, spoilt(text)...)
+	}
+	return texts
+}
+
+// spoilt tells what is left of the text from its beginning or up to its end, the text with each bit turned, and grown.
+func spoilt(text string) []string {
+	texts := []string{text + "x", text + "\x00", "x" + text, text + text}
+	for n := range len(text) {
+		texts = append(texts, text[:n], text[n+1:])
+		for bit := range 8 {
+			bytes := []byte(text)
+			bytes[n] ^= 1 << bit
+			texts = append(texts, string(bytes))
 		}
-		texts = append(texts, text+"x", text+"\x00", "x"+text, text+text)
 	}
 	return texts
 }
